@@ -18,7 +18,7 @@ func put(uid string) api.Op { return api.Op{UID: uid, Card: ann} }
 
 func del(uid string) api.Op { return api.Op{Del: true, UID: uid} }
 
-func ops(n int) []api.Op {
+func someOps(n int) []api.Op {
 	var l []api.Op
 	for i := range n {
 		l = append(l, put(string(rune('a'+i))))
@@ -38,7 +38,7 @@ func good() []api.Req {
 		{Kind: api.Delete, Col: "home", UID: "u1", Cond: api.Cond{Kind: api.Present}},
 		{Kind: api.Get, Col: "home", UID: "u1"},
 		{Kind: api.Batch, Col: "home", Ops: []api.Op{put("a"), {Del: true, UID: "b", Cond: exact}, {UID: "c", Card: ann, Cond: api.Cond{Kind: api.Absent}}}},
-		{Kind: api.Batch, Col: "home", Ops: ops(8)},
+		{Kind: api.Batch, Col: "home", Ops: someOps(8)},
 		{Kind: api.Batch, Col: "home", Ops: []api.Op{put("a"), put("a")}},
 		{Kind: api.Delta, Col: "home", Token: math.MaxInt64, Most: 1000},
 		{Kind: api.Delta, Col: "home", Most: 1},
@@ -67,7 +67,7 @@ func TestCheckFieldsOfKinds(t *testing.T) {
 		api.Hello: "Tenant", api.Create: "Col", api.Drop: "Col", api.Put: "Col UID Card Cond", api.Delete: "Col UID Cond", api.Get: "Col UID", api.Batch: "Col Ops",
 		api.Delta: "Col Token Most", api.Wait: "Col Token Ticks", api.List: "", api.Bye: "",
 	}
-	full := api.Req{Tenant: "ann", Col: "home", UID: "u1", Card: ann, Cond: api.Cond{Kind: api.Absent}, Ops: ops(1), Token: 1, Most: 1, Ticks: 1}
+	full := api.Req{Tenant: "ann", Col: "home", UID: "u1", Card: ann, Cond: api.Cond{Kind: api.Absent}, Ops: someOps(1), Token: 1, Most: 1, Ticks: 1}
 	from := reflect.ValueOf(full)
 	for _, q := range good() {
 		for i := range from.NumField() {
@@ -101,7 +101,7 @@ func TestCheckErrors(t *testing.T) {
 		{api.Req{}, api.ErrRange},
 		{api.Req{Kind: -1, Tenant: "A"}, api.ErrRange},
 		{api.Req{Kind: 12}, api.ErrRange},
-		{api.Req{Kind: math.MaxInt, Ops: ops(1)}, api.ErrRange},
+		{api.Req{Kind: math.MaxInt, Ops: someOps(1)}, api.ErrRange},
 		{api.Req{Kind: api.Hello}, api.ErrName},
 		{api.Req{Kind: api.Hello, Tenant: "Ann"}, api.ErrName},
 		{api.Req{Kind: api.Create}, api.ErrName},
@@ -118,16 +118,16 @@ func TestCheckErrors(t *testing.T) {
 		{api.Req{Kind: api.Delete, Col: "home", UID: "u", Cond: api.Cond{Version: 1}}, api.ErrForm},
 		{api.Req{Kind: api.Delete, Col: "home", UID: "u", Cond: api.Cond{Kind: 4}}, api.ErrForm},
 		{batch(), api.ErrRange},
-		{batch(ops(9)...), api.ErrRange},
-		{batch(append(ops(9), del("-/"))...), api.ErrName},
-		{batch(append(ops(9), api.Op{Del: true, UID: "x", Cond: bad})...), api.ErrForm},
-		{batch(append(ops(9), api.Op{UID: "x"})...), api.ErrForm},
+		{batch(someOps(9)...), api.ErrRange},
+		{batch(append(someOps(9), del("-/"))...), api.ErrName},
+		{batch(append(someOps(9), api.Op{Del: true, UID: "x", Cond: bad})...), api.ErrForm},
+		{batch(append(someOps(9), api.Op{UID: "x"})...), api.ErrForm},
 		{batch(put("a"), api.Op{Del: true, UID: "", Card: "x"}), api.ErrForm},
 		{batch(put("a"), api.Op{UID: "", Card: "x"}), api.ErrName},
 		{batch(put("a"), del("")), api.ErrName},
 		{batch(put("a"), api.Op{Del: true, UID: "b", Card: ann}), api.ErrForm},
 		{batch(put("a"), api.Op{UID: "b", Card: ann, Cond: bad}), api.ErrForm},
-		{api.Req{Kind: api.Batch, Ops: ops(9)}, api.ErrName},
+		{api.Req{Kind: api.Batch, Ops: someOps(9)}, api.ErrName},
 		{api.Req{Kind: api.Delta, Col: "home"}, api.ErrRange},
 		{api.Req{Kind: api.Delta, Col: "home", Most: 1001}, api.ErrRange},
 		{api.Req{Kind: api.Delta, Col: "home", Most: -1}, api.ErrRange},
