@@ -9,8 +9,8 @@ import (
 	"testing"
 
 	"henhouse/api"
-	"henhouse/book"
 	"henhouse/frame"
+	"henhouse/hist"
 	"henhouse/req"
 	"henhouse/resp"
 	"henhouse/server"
@@ -152,20 +152,11 @@ func TestThereIsAnOrder(t *testing.T) {
 
 func ordered(t *testing.T, c api.Conf, l []api.Event) {
 	t.Helper()
-	b, _ := book.New(c)
-	stage := map[[2]int]int{}
-	for i, e := range l {
-		key := [2]int{e.Conn, e.Seq}
-		if stage[key] >= e.Kind {
-			t.Fatalf("P29.2: event %d: %+v", i, e)
-		}
-		stage[key] = e.Kind
-		if e.Kind != api.Committed || e.Req.Kind == api.Hello || e.Req.Kind == api.Bye {
-			continue
-		}
-		if want := b.Do(e.Tenant, e.Req); !same(e.Resp, want) {
-			t.Fatalf("P0.8: event %d: %+v, not %+v", i, e, want)
-		}
+	if at, e := hist.Check(c, l); e != api.OK || at != len(l) {
+		t.Fatalf("P0.8, P29.2, P30.2: event %d: %d: %+v", at, e, l[at])
+	}
+	if n := len(hist.Pending(l)); n > c.Conns {
+		t.Fatalf("P30.1: %d requests are pending", n)
 	}
 }
 
