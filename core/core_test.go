@@ -245,6 +245,9 @@ func TestSleepAndWake(t *testing.T) {
 	}
 	x.Unlock(0, 99, true)
 	x.Rise(5)
+	if x.Awake(5) {
+		t.Error("P27.5: Rise of one whose alarm is due")
+	}
 	x.Sleep(5, -8, 0)
 	if !x.Awake(5) || !x.Awake(6) || x.Tick(math.MaxInt) {
 		t.Error("P27.5: Awake")

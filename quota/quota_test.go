@@ -19,6 +19,7 @@ func TestCheckAndNew(t *testing.T) {
 		e api.Errno
 	}{
 		{most, api.OK},
+		{api.Quota{Cols: 8, Cards: 16, Bytes: 1 << 20, Log: 64}, api.OK},
 		{api.Quota{Cols: 1, Cards: 1, Bytes: 1, Log: 1}, api.OK},
 		{api.Quota{}, api.ErrRange},
 		{with(func(q *api.Quota) { q.Cols = 0 }), api.ErrRange},

@@ -137,6 +137,8 @@ func TestDecodeErrors(t *testing.T) {
 		{-1, none, api.ErrRange},
 		{api.Get, none, api.ErrRange},
 		{127, "", api.ErrRange},
+		{140, "", api.ErrRange},
+		{math.MaxInt, "", api.ErrRange},
 		{128, none, api.OK},
 		{139, none, api.OK},
 		{128, "", api.ErrForm},

@@ -456,6 +456,9 @@ func TestDo(t *testing.T) {
 			t.Errorf("P29.3: act %d: %+v: %v", i, c.a, got)
 		}
 	}
+	if !slices.Equal(s.Runnable(), []int{0, 1, 3}) {
+		t.Errorf("P29.3: Runnable behind Stop: %v", s.Runnable())
+	}
 	if s.Now() != 5 || s.State(2) != Ended || s.State(3) != Idle || s.State(4) != 0 {
 		t.Errorf("P29.3: Now %d, states %d, %d, %d", s.Now(), s.State(2), s.State(3), s.State(4))
 	}

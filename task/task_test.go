@@ -284,9 +284,10 @@ func TestDroppedWhileQueued(t *testing.T) {
 	}
 	stuck(t, a, Act)
 	dropper.Step()
+	x.Sleep(77, 0, 1000)
 	walk(t, a, 9, Act, Seek)
-	if x.Held(0, 2) != rw.None {
-		t.Error("P28.3: a lock is held in Seek")
+	if x.Held(0, 2) != rw.None || x.Awake(77) {
+		t.Error("P28.1, P28.3: a lock is held in Seek, or somebody is woken")
 	}
 	walk(t, a, 1, Seek, Done)
 	answers(t, a, api.Resp{Kind: api.Put, Err: api.ErrNone})
@@ -318,6 +319,8 @@ func TestWaitIsWoken(t *testing.T) {
 	x := farm(t)
 	k := asleep(t, x, 1, wait(2, 100))
 	do(t, x, 2, get("u"))
+	do(t, x, 2, delta(0))
+	do(t, x, 2, wait(0, 0))
 	do(t, x, 2, api.Req{Kind: api.Delete, Col: "home", UID: "none"})
 	do(t, x, 2, api.Req{Kind: api.Create, Col: "away"})
 	stuck(t, k, Rest)
@@ -394,6 +397,11 @@ func TestDropWakes(t *testing.T) {
 func TestStop(t *testing.T) {
 	x := farm(t)
 	k := asleep(t, x, 1, wait(1, 5))
+	k.Stop()
+	walk(t, k, 4, Rest, Seek, Queue, Act, Free, Done)
+	answers(t, k, api.Resp{Kind: api.Wait, Err: api.ErrClosed})
+	// Also where its deadline has come.
+	k = asleep(t, x, 1, wait(1, 5))
 	k.Stop()
 	x.Tick(5)
 	walk(t, k, 4, Rest, Seek, Queue, Act, Free, Done)

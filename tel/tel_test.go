@@ -101,6 +101,9 @@ func TestMatch(t *testing.T) {
 		{"12345", "", false},
 		{"12345", "12 345", false},
 		{"1234567890123456", "12345", false},
+		{"1234567890123456", "23456", false},
+		{"x12345", "12345", false},
+		{"12 12345", "12345", false},
 	} {
 		if Match(c.a, c.b) != c.want || Match(c.b, c.a) != c.want {
 			t.Errorf("P3.2: Match(%q, %q) is not %v", c.a, c.b, c.want)
