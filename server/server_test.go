@@ -486,3 +486,11 @@ func TestEventsAreNewMemory(t *testing.T) {
 		t.Error("P0.4: Events hands out its memory")
 	}
 }
+
+func TestNumbersOfStates(t *testing.T) {
+	for i, s := range []int{Idle, Busy, Answers, Ended} {
+		if s != i+1 {
+			t.Errorf("P29.1: state %d is %d", i+1, s)
+		}
+	}
+}

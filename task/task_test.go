@@ -526,3 +526,11 @@ func drawReq(r *rand.Rand, last int64) api.Req {
 	}
 	return q
 }
+
+func TestNumbersOfStages(t *testing.T) {
+	for i, s := range []int{Seek, Queue, Act, Write, Read, Free, Rest, Done} {
+		if s != i+1 {
+			t.Errorf("P28.2: stage %d is %d", i+1, s)
+		}
+	}
+}
